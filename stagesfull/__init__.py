@@ -1,0 +1,1 @@
+"""Stagesfull: training a net cut into stages."""

@@ -1,0 +1,128 @@
+"""Values that several tests use: values of any kind, nets, batches, cuts and schedules."""
+
+import random
+
+from stagesfull.nets import Net
+from stagesfull.schedules import Schedule
+
+PRIMES = (2, 3, 5, 7, 11, 13, 17, 19, 23, 29, 31, 37, 41, 43, 47, 53, 59, 61, 67, 71, 73, 79, 83, 89, 97)
+
+
+def nested(value, times):
+    for turn in range(times):
+        value = (value,) if turn % 2 else [value]
+    return value
+
+
+# What an argument for which an error is described may be, besides the numbers from 0 to 99.
+ANY_VALUES = (
+    None, True, False, -1, -2, -100, 100, 101, 10 ** 399, -10 ** 399 + 1,
+    "", "1", "f", "f0.1", "line", "a\nb", (), [], (1,), [1], (True,), ["f", 0, 0], ("f", 0, 0),
+    (("f", 0, 0), ("b", 0, 0)), [[["f", 0, 0], ["b", 0, 0]]], (None, True, 3, "x", [1, (2,)]),
+    nested(1, 10), nested("", 9), [1] * 199, tuple(range(199)), [[]], ((),), [None], [[None]], [[[]]],
+)
+
+
+def any_values_but(*fitting):
+    """ANY_VALUES without those that are equal to one of fitting and of the same type."""
+    return [value for value in ANY_VALUES
+            if not any(type(value) is type(one) and value == one for one in fitting)]
+
+
+def as_lists(value):
+    """The same with lists in place of tuples."""
+    if isinstance(value, (tuple, list)):
+        return [as_lists(item) for item in value]
+    return value
+
+
+def spoil(value):
+    """Change a list, and all lists in it, so that nothing of it is as it was."""
+    if isinstance(value, list):
+        for item in value:
+            spoil(item)
+        value.append("spoiled")
+        value[0] = "spoiled"
+
+
+def all_tuples(value):
+    """Whether a value consists of integers, strings, None, bools and tuples of such only."""
+    if isinstance(value, tuple):
+        return all(all_tuples(item) for item in value)
+    return value is None or isinstance(value, (int, str))
+
+
+def some_vector(rng, prime, width):
+    return tuple(rng.randrange(prime) for _ in range(width))
+
+
+def some_matrix(rng, prime, width):
+    return tuple(some_vector(rng, prime, width) for _ in range(width))
+
+
+def some_net(rng, prime=None, layers=None, width=None):
+    prime = rng.choice(PRIMES) if prime is None else prime
+    layers = rng.randint(1, 6) if layers is None else layers
+    width = rng.randint(1, 3) if width is None else width
+    return Net(prime, tuple(some_matrix(rng, prime, width) for _ in range(layers)),
+               tuple(rng.choice(("line", "square")) for _ in range(layers)))
+
+
+def some_portion(rng, net):
+    return tuple((some_vector(rng, net.prime, net.width), some_vector(rng, net.prime, net.width))
+                 for _ in range(rng.randint(1, 3)))
+
+
+def some_batch(rng, net, portions=None):
+    portions = rng.randint(1, 6) if portions is None else portions
+    return tuple(some_portion(rng, net) for _ in range(portions))
+
+
+def all_cuts(layers, stages):
+    """All cuts of so many layers into so many stages, ascending."""
+    if stages == 0:
+        return [()] if layers == 0 else []
+    return [(many,) + rest for many in range(1, layers + 1) for rest in all_cuts(layers - many, stages - 1)]
+
+
+def plain_needs(stages, deed):
+    """What a deed needs, straight from the document's words."""
+    way, portion, stage = deed
+    found = []
+    if way == "f" and stage != 0:
+        found.append(("f", portion, stage - 1))
+    if way == "b":
+        found.append(("f", portion, stage))
+        if stage != stages - 1:
+            found.append(("b", portion, stage + 1))
+    return tuple(sorted(found))
+
+
+def all_deeds(stages, portions):
+    return [(way, portion, stage) for way in "fb" for portion in range(portions) for stage in range(stages)]
+
+
+def some_rows(rng, machines, stages, portions):
+    """Rows that are lawful because they come out of one order of all deeds."""
+    left = all_deeds(stages, portions)
+    done = set()
+    rows = [[] for _ in range(machines)]
+    while left:
+        ready = [deed for deed in left if all(one in done for one in plain_needs(stages, deed))]
+        deed = rng.choice(ready)
+        left.remove(deed)
+        done.add(deed)
+        rows[deed[2] % machines].append(deed)
+    return tuple(tuple(row) for row in rows)
+
+
+def some_schedule(rng, machines=None, stages=None, portions=None):
+    machines = rng.randint(1, 4) if machines is None else machines
+    stages = machines * rng.randint(1, 3) if stages is None else stages
+    portions = rng.randint(1, 4) if portions is None else portions
+    return Schedule(machines, stages, portions, some_rows(rng, machines, stages, portions))
+
+
+def dice(number):
+    """Chances that are the same in every run of the tests."""
+    return random.Random(number)
