@@ -92,9 +92,9 @@ def forward(net, vector):
     return way_forward(net, vector)[-1]
 
 
-def loss_slopes(net, out, target):
+def loss_slopes(prime, out, target):
     """The slopes of what comes out, of one example's loss."""
-    return tuple([2 * (number - wanted) % net.prime for number, wanted in zip(out, target)])
+    return tuple([2 * (number - wanted) % prime for number, wanted in zip(out, target)])
 
 
 def no_slopes(net):
@@ -117,7 +117,7 @@ def portion_slopes(net, portion):
     sums = no_slopes(net)
     for vector, target in portion:
         way = way_forward(net, vector)
-        back = way_back(net, way[:-1], loss_slopes(net, way[-1], target))
+        back = way_back(net, way[:-1], loss_slopes(net.prime, way[-1], target))
         sums = added_slopes(net, sums, back[1])
     return sums
 

@@ -20,7 +20,7 @@ METHODS = {"append", "clear", "copy", "count", "endswith", "extend", "find", "ge
            "setdefault", "split", "startswith", "strip", "update", "upper", "values", "lower"}
 # Kinds of code that the language bars, or that the package does without.
 BARRED = (ast.GeneratorExp, ast.Lambda, ast.Starred, ast.Div, ast.Pow, ast.AsyncFunctionDef, ast.Await,
-          ast.Global, ast.Nonlocal, ast.With, ast.Set, ast.SetComp, ast.JoinedStr, ast.NamedExpr, ast.Yield,
+          ast.Global, ast.Nonlocal, ast.With, ast.Set, ast.SetComp, ast.NamedExpr, ast.Yield,
           ast.YieldFrom, ast.Import, ast.Match, ast.AnnAssign, ast.Try)
 WORDS = ("type", "typing", "enum", "namedtuple", "register", "mro", "elements", "open", "input", "law",
          "with_traceback", "add_note", "eval", "exec", "id", "vars", "dir", "os", "sys", "format")
@@ -107,6 +107,8 @@ class Form(unittest.TestCase):
                 self.assertNotIsInstance(node, BARRED, (path, getattr(node, "lineno", None)))
                 if isinstance(node, ast.Constant):
                     self.assertNotIsInstance(node.value, (float, complex, bytes), path)
+                if isinstance(node, ast.FormattedValue):
+                    self.assertIsNone(node.format_spec)
                 if isinstance(node, ast.FunctionDef):
                     self.assertIsNone(node.returns)
                     for one in node.decorator_list:

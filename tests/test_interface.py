@@ -29,9 +29,22 @@ FUNCTIONS = {
         "kept_at_most": "(schedule)",
         "under_way": "(schedule, order)",
     },
+    "rules": {
+        "fill_and_drain": "(machines, stages, portions)",
+        "one_and_one": "(machines, portions, under)",
+        "row_text": "(schedule)",
+        "read_rows": "(text)",
+    },
+    "times": {"starts": TIMED, "span": TIMED, "chain": TIMED, "idle": TIMED},
+    "leasts": {
+        "least_span": "(machines, portions, under, forth, back)",
+        "least_span_many": "(machines, stages, portions, forth, back)",
+        "efficiency": "(machines, portions, under)",
+        "portions_for": "(machines, under, over, below)",
+    },
 }
 
-# For each class its methods, and the attributes that each object has from the beginning.
+# For each class its methods.
 CLASSES = {
     "errors": {
         "StageError": {},
@@ -55,6 +68,36 @@ CLASSES = {
         "Schedule": {
             "__init__": "(self, machines, stages, portions, rows)",
             "__eq__": "(self, other)",
+        },
+    },
+    "works": {
+        "Work": {
+            "__init__": "(self, net, layers, again, own=False, rate=0)",
+            "go_forward": "(self, portion, vectors)",
+            "go_back": "(self, portion, slopes)",
+            "sums": "(self)",
+            "kept": "(self)",
+            "change": "(self, rate)",
+            "matrices": "(self)",
+            "versions": "(self)",
+        },
+    },
+    "runs": {
+        "Run": {
+            "__init__": "(self, net, cut, batch, schedule, rate, *, again=False, own=False)",
+            "post": "(self, machine)",
+            "letters": "(self)",
+            "deliver": "(self, number)",
+            "double": "(self, number)",
+            "lose": "(self, number)",
+            "place_of": "(self, machine)",
+            "keep": "(self, machine)",
+            "fall": "(self, machine)",
+            "is_done": "(self)",
+            "calm": "(self)",
+            "trained": "(self)",
+            "layers_by_machine": "(self)",
+            "__len__": "(self)",
         },
     },
 }

@@ -212,6 +212,17 @@ class WrongRows(unittest.TestCase):
         self.refuse((one, two + (("g", 0, 1),)))
         self.refuse((one, two + (("f", 0),)))
 
+    def test_as_many_deeds_of_other_numbers(self):
+        for portion in (-1, 1, 2, 10 ** 399):
+            self.refuse(((("f", portion, 0), ("b", portion, 0)),), 1, 1, 1)
+            self.refuse(((("f", 0, 0), ("b", 0, 0), ("f", portion, 0), ("b", portion, 0)),), 1, 1, 1)
+        for portion in (-1, 2, 3):
+            self.refuse(((("f", 0, 0), ("b", 0, 0), ("f", portion, 0), ("b", portion, 0)),), 1, 1, 2)
+        for stage in (-1, 1, 2, 10 ** 399):
+            self.refuse(((("f", 0, stage), ("b", 0, stage)),), 1, 1, 1)
+        for stage in (-1, 2, 3):
+            self.refuse(((("f", 0, 0), ("f", 0, stage), ("b", 0, stage), ("b", 0, 0)),), 1, 2, 1)
+
     def test_rows_of_other_machines(self):
         one, two = SMALL[3]
         self.refuse((two, one))
