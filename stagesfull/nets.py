@@ -122,6 +122,14 @@ def portion_slopes(net, portion):
     return sums
 
 
+def batch_slopes(net, batch):
+    """The sums of portion_slopes of all portions."""
+    sums = no_slopes(net)
+    for portion in batch:
+        sums = added_slopes(net, sums, portion_slopes(net, portion))
+    return sums
+
+
 def _changed_matrix(prime, matrix, slopes, rate):
     return tuple([tuple([(w - rate * slope) % prime for w, slope in zip(row, beside)])
                   for row, beside in zip(matrix, slopes)])
@@ -135,7 +143,4 @@ def changed(net, slopes, rate):
 
 def train(net, batch, rate):
     """The net after plain training: one change by the sums of all portions."""
-    sums = no_slopes(net)
-    for portion in batch:
-        sums = added_slopes(net, sums, portion_slopes(net, portion))
-    return changed(net, sums, rate)
+    return changed(net, batch_slopes(net, batch), rate)

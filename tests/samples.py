@@ -2,8 +2,9 @@
 
 import random
 
-from stagesfull.nets import Net
-from stagesfull.schedules import Schedule
+from stagesfull.nets import Net, layer_back, layer_forward
+from stagesfull.rules import fill_and_drain, one_and_one
+from stagesfull.schedules import Schedule, some_order
 
 PRIMES = (2, 3, 5, 7, 11, 13, 17, 19, 23, 29, 31, 37, 41, 43, 47, 53, 59, 61, 67, 71, 73, 79, 83, 89, 97)
 
@@ -121,6 +122,58 @@ def some_schedule(rng, machines=None, stages=None, portions=None):
     stages = machines * rng.randint(1, 3) if stages is None else stages
     portions = rng.randint(1, 4) if portions is None else portions
     return Schedule(machines, stages, portions, some_rows(rng, machines, stages, portions))
+
+
+def late_weights(net, cut, batch, schedule, rate):
+    """The plain way of [17]: one hand does all deeds in order and keeps all versions of the weights."""
+    layers = []
+    for many in cut:
+        layers.append(range(sum(map(len, layers)), sum(map(len, layers)) + many))
+    versions = [[net] for _ in cut]
+    used, given = {}, {}
+    for way, k, s in some_order(schedule):
+        portion = batch[k]
+        if way == "f":
+            used[k, s] = versions[s][-1]
+            vectors = given["f", k, s - 1] if s else [vector for vector, _ in portion]
+            for layer in layers[s]:
+                vectors = [layer_forward(used[k, s], layer, vector) for vector in vectors]
+            given["f", k, s] = vectors
+            continue
+        if s == len(cut) - 1:
+            slopes = [[2 * (o - t) % net.prime for o, t in zip(out, target)]
+                      for out, (_, target) in zip(given["f", k, s], portion)]
+        else:
+            slopes = given["b", k, s + 1]
+        vectors = given["f", k, s - 1] if s else [vector for vector, _ in portion]
+        weights = [[list(row) for row in matrix] for matrix in versions[s][-1].weights]
+        given["b", k, s] = []
+        for vector, slope in zip(vectors, slopes):
+            came = [vector]
+            for layer in layers[s]:
+                came.append(layer_forward(used[k, s], layer, came[-1]))
+            for place, layer in reversed(list(enumerate(layers[s]))):
+                slope, matrix = layer_back(used[k, s], layer, came[place], slope)
+                for i, row in enumerate(matrix):
+                    for c, number in enumerate(row):
+                        weights[layer][i][c] = (weights[layer][i][c] - rate * number) % net.prime
+            given["b", k, s].append(slope)
+        versions[s].append(Net(net.prime, weights, net.kinds))
+    return tuple(versions[s][-1].weights[layer] for s, row in enumerate(layers) for layer in row)
+
+
+def some_case(rng):
+    """A net, a cut, a batch, and a schedule with at most 6 stages that fit."""
+    machines = rng.randint(1, 4)
+    stages = machines * rng.randint(1, 6 // machines)
+    net = some_net(rng, None, rng.randint(stages, 6))
+    cut = rng.choice(all_cuts(len(net), stages))
+    portions = rng.randint(1, 6)
+    batch = some_batch(rng, net, portions)
+    told = [some_schedule(rng, machines, stages, portions), fill_and_drain(machines, stages, portions)]
+    if stages == machines:
+        told.append(one_and_one(machines, portions, rng.randint(1, machines)))
+    return net, cut, batch, rng.choice(told)
 
 
 def dice(number):

@@ -5,6 +5,7 @@ import inspect
 import unittest
 
 TIMED = "(schedule, forth, back, *, wait=0)"
+TIMED_MOMENT = "(schedule, forth, back, moment, *, wait=0)"
 
 FUNCTIONS = {
     "nets": {
@@ -41,6 +42,27 @@ FUNCTIONS = {
         "least_span_many": "(machines, stages, portions, forth, back)",
         "efficiency": "(machines, portions, under)",
         "portions_for": "(machines, under, over, below)",
+    },
+    "campaigns": {
+        "campaign": "(net, legs)",
+        "epoch_slopes": "(net, batches)",
+    },
+    "momenta": {
+        "zeros": "(net)",
+        "pushed": "(net, push, slopes, rate, friction, decay)",
+        "train_pushed": "(net, batches, rate, friction, decay)",
+    },
+    "polynomials": {
+        "loss": "(net, batch)",
+        "loss_polynomial": "(net, batch, layer, i, k)",
+        "at": "(net, polynomial, number)",
+    },
+    "plans": {"best_plan": "(forth, back, kept, machines, portions, room)"},
+    "moments": {
+        "events": TIMED,
+        "busy_at": TIMED_MOMENT,
+        "portions_at": TIMED_MOMENT,
+        "most_under_way": TIMED,
     },
 }
 

@@ -2,13 +2,12 @@
 
 import unittest
 
-from samples import (ANY_VALUES, all_cuts, all_tuples, any_values_but, as_lists, dice, plain_needs, some_batch,
-                     some_net, some_schedule, spoil)
+from samples import (ANY_VALUES, all_cuts, all_tuples, any_values_but, as_lists, dice, late_weights, plain_needs,
+                     some_case, spoil)
 from stagesfull.errors import InvalidCut, NoLetter, NoMachine, NotDone, StageError
-from stagesfull.nets import Net, layer_back, layer_forward, train
+from stagesfull.nets import Net, train
 from stagesfull.rules import fill_and_drain, one_and_one
 from stagesfull.runs import Run
-from stagesfull.schedules import some_order
 
 
 class Model:
@@ -70,58 +69,6 @@ class Model:
         for way, portion, stage in self.schedule.rows[machine][:self.places[machine]]:
             total += len(self.batch[portion]) * self.cut[stage] * (way == "f" or self.again)
         return total
-
-
-def late_weights(net, cut, batch, schedule, rate):
-    """The plain way of [17]: one hand does all deeds in order and keeps all versions of the weights."""
-    layers = []
-    for many in cut:
-        layers.append(range(sum(map(len, layers)), sum(map(len, layers)) + many))
-    versions = [[net] for _ in cut]
-    used, given = {}, {}
-    for way, k, s in some_order(schedule):
-        portion = batch[k]
-        if way == "f":
-            used[k, s] = versions[s][-1]
-            vectors = given["f", k, s - 1] if s else [vector for vector, _ in portion]
-            for layer in layers[s]:
-                vectors = [layer_forward(used[k, s], layer, vector) for vector in vectors]
-            given["f", k, s] = vectors
-            continue
-        if s == len(cut) - 1:
-            slopes = [[2 * (o - t) % net.prime for o, t in zip(out, target)]
-                      for out, (_, target) in zip(given["f", k, s], portion)]
-        else:
-            slopes = given["b", k, s + 1]
-        vectors = given["f", k, s - 1] if s else [vector for vector, _ in portion]
-        weights = [[list(row) for row in matrix] for matrix in versions[s][-1].weights]
-        given["b", k, s] = []
-        for vector, slope in zip(vectors, slopes):
-            came = [vector]
-            for layer in layers[s]:
-                came.append(layer_forward(used[k, s], layer, came[-1]))
-            for place, layer in reversed(list(enumerate(layers[s]))):
-                slope, matrix = layer_back(used[k, s], layer, came[place], slope)
-                for i, row in enumerate(matrix):
-                    for c, number in enumerate(row):
-                        weights[layer][i][c] = (weights[layer][i][c] - rate * number) % net.prime
-            given["b", k, s].append(slope)
-        versions[s].append(Net(net.prime, weights, net.kinds))
-    return tuple(versions[s][-1].weights[layer] for s, row in enumerate(layers) for layer in row)
-
-
-def some_case(rng):
-    """A net, a cut, a batch, and a schedule with at most 6 stages that fit."""
-    machines = rng.randint(1, 4)
-    stages = machines * rng.randint(1, 6 // machines)
-    net = some_net(rng, None, rng.randint(stages, 6))
-    cut = rng.choice(all_cuts(len(net), stages))
-    portions = rng.randint(1, 6)
-    batch = some_batch(rng, net, portions)
-    told = [some_schedule(rng, machines, stages, portions), fill_and_drain(machines, stages, portions)]
-    if stages == machines:
-        told.append(one_and_one(machines, portions, rng.randint(1, machines)))
-    return net, cut, batch, rng.choice(told)
 
 
 NET = Net(7, (((2,),), ((3,),), ((4,),)), ("line", "square", "line"))
