@@ -7,8 +7,8 @@ from stagesfull.runs import Run, check_run_cut
 def campaign(net, legs):
     """The net after one run for each leg, each beginning with what the one ahead has trained."""
     # Ahead of all runs, so that nothing is run if a later cut is wrong.
-    for cut, _, schedule, _, _ in legs:
-        check_run_cut(net, cut, schedule)
+    for leg in legs:
+        check_run_cut(net, leg[0], leg[2])
     trained = net
     for cut, batch, schedule, rate, again in legs:
         run = Run(trained, cut, batch, schedule, rate, again=again)

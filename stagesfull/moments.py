@@ -31,7 +31,7 @@ def most_under_way(schedule, forth, back, *, wait=0):
     """The greatest number of portions that are under way at any moment."""
     ways = _ways(schedule, forth, back, wait)
     # Only where a portion begins there come to be more.
-    return max([len(_under_way_at(ways, begin)) for _, begin, _ in ways])
+    return max([len(_under_way_at(ways, begin)) for portion, begin, end in ways])
 
 
 def _stretches(schedule, forth, back, wait):

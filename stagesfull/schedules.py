@@ -65,7 +65,7 @@ def _is_lawful(stages, rows):
     return len(_order_of(stages, rows)) == sum([len(row) for row in rows])
 
 
-def _needs_of(stages, deed):
+def needs_of(stages, deed):
     """The deeds that the deed needs, ascending."""
     way, portion, stage = deed
     if way == "b":
@@ -93,14 +93,14 @@ def _lowest_ready(stages, rows, places, done):
     """The lowest machine whose next deed can be done, or None."""
     for machine, row in enumerate(rows):
         place = places[machine]
-        if place < len(row) and all([deed in done for deed in _needs_of(stages, row[place])]):
+        if place < len(row) and all([deed in done for deed in needs_of(stages, row[place])]):
             return machine
     return None
 
 
 def needs(schedule, deed):
     """The deeds that the deed needs, ascending."""
-    return _needs_of(schedule.stages, deed)
+    return needs_of(schedule.stages, deed)
 
 
 def some_order(schedule):

@@ -176,6 +176,24 @@ def some_case(rng):
     return net, cut, batch, rng.choice(told)
 
 
+def all_lawful_rows(machines, stages, portions):
+    """The rows of all lawful schedules, ascending, out of all orders of the deeds."""
+    found = set()
+    orders = [()]
+    for _ in range(2 * stages * portions):
+        orders = [order + (deed,) for order in orders for deed in all_deeds(stages, portions)
+                  if deed not in order and all(one in order for one in plain_needs(stages, deed))]
+    for order in orders:
+        found.add(tuple(tuple(deed for deed in order if deed[2] % machines == machine)
+                        for machine in range(machines)))
+    return sorted(found)
+
+
+# All numbers of machines, stages and portions that count_schedules takes.
+FEW = [(machines, stages, portions) for machines in range(1, 5) for stages in range(machines, 5, machines)
+       for portions in range(1, 5) if stages * portions <= 4]
+
+
 def dice(number):
     """Chances that are the same in every run of the tests."""
     return random.Random(number)

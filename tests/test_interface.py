@@ -64,6 +64,24 @@ FUNCTIONS = {
         "portions_at": TIMED_MOMENT,
         "most_under_way": TIMED,
     },
+    "falls": {
+        "time_with_falls": "(work, every, cost, falls)",
+        "units_again": "(work, every, cost, falls)",
+        "least_every": "(work, cost, falls)",
+    },
+    "counts": {
+        "count_schedules": "(machines, stages, portions)",
+        "schedule_of_number": "(machines, stages, portions, number)",
+        "number_of_schedule": "(schedule)",
+    },
+    "searches": {
+        "least_found": "(machines, stages, portions, under, forth, back)",
+        "least_of_tables": "(machines, stages, portions, forth, back, *, wait=0)",
+    },
+    "lates": {
+        "late_train": "(net, cut, batch, schedule, rate)",
+        "version_used": "(schedule, portion, stage)",
+    },
 }
 
 # For each class its methods.
