@@ -1,7 +1,7 @@
 """Training in which each portion changes the weights at once: the plain way, by one hand."""
 
 from stagesfull.cuts import stage_layers
-from stagesfull.nets import Net, added_slopes, changed, loss_slopes, no_slopes, way_back, way_forward
+from stagesfull.nets import Net, added_slopes, changed, loss_slopes, no_slopes, part_of, way_back, way_forward
 from stagesfull.runs import check_run_cut
 from stagesfull.schedules import some_order
 
@@ -13,7 +13,7 @@ class Hand:
         self._net = net
         self._batch = batch
         self._rate = rate
-        self._versions = [[_part_of(net, layers)] for layers in stage_layers(cut)]
+        self._versions = [[part_of(net, layers)] for layers in stage_layers(cut)]
         # For each portion and stage the version used, and for each example its way through the layers.
         self._gone = {}
         # For each portion and stage, for each example the slopes of what came in.
@@ -57,11 +57,6 @@ class Hand:
         """The net with the last version of each stage."""
         weights = [matrix for versions in self._versions for matrix in versions[-1].weights]
         return Net(self._net.prime, weights, self._net.kinds)
-
-
-def _part_of(net, layers):
-    """The net of these layers alone."""
-    return Net(net.prime, [net.weights[layer] for layer in layers], [net.kinds[layer] for layer in layers])
 
 
 def late_train(net, cut, batch, schedule, rate):

@@ -1,6 +1,6 @@
 """Nets of layers over the numbers modulo a prime, and their plain training."""
 
-from stagesfull.checks import is_between
+from stagesfull.checks import as_tuples, is_between
 from stagesfull.errors import InvalidNumber
 
 
@@ -8,10 +8,10 @@ class Net:
     """Layers of one width, each with a matrix and a kind, modulo a prime."""
 
     def __init__(self, prime, weights, kinds):
-        if not is_between(prime, 2, 97) or not _is_prime(prime):
+        if not is_net_prime(prime):
             raise InvalidNumber(prime)
         self.prime = prime
-        self.weights = tuple([_plain_matrix(matrix) for matrix in weights])
+        self.weights = as_tuples(weights)
         self.kinds = tuple(kinds)
 
     @property
@@ -27,12 +27,14 @@ class Net:
                 and self.weights == other.weights and self.kinds == other.kinds)
 
 
-def _is_prime(number):
-    return all([number % divisor != 0 for divisor in range(2, number)])
+def is_net_prime(value):
+    """Whether value is a prime from 2 to 97."""
+    return is_between(value, 2, 97) and all([value % divisor != 0 for divisor in range(2, value)])
 
 
-def _plain_matrix(matrix):
-    return tuple([tuple(row) for row in matrix])
+def part_of(net, layers):
+    """The net of these layers alone."""
+    return Net(net.prime, [net.weights[layer] for layer in layers], [net.kinds[layer] for layer in layers])
 
 
 def _product(net, layer, vector):

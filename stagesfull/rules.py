@@ -1,10 +1,8 @@
 """Told schedules, and schedules as text."""
 
-from stagesfull.checks import is_between
+from stagesfull.checks import is_between, is_short_number
 from stagesfull.errors import InvalidNumber, InvalidText
 from stagesfull.schedules import Schedule, check_counts
-
-DIGITS = "0123456789"
 
 
 def fill_and_drain(machines, stages, portions):
@@ -71,13 +69,6 @@ def _deed_of(word):
     """The deed that the word tells, or None if it tells none."""
     way = word[:1]
     portion, _, stage = word[1:].partition(".")
-    if way not in ("f", "b") or not _is_short_number(portion) or not _is_short_number(stage):
+    if way not in ("f", "b") or not is_short_number(portion) or not is_short_number(stage):
         return None
     return (way, int(portion), int(stage))
-
-
-def _is_short_number(digits):
-    """Whether these are one or two digits without a leading zero."""
-    if len(digits) not in (1, 2) or not all([sign in DIGITS for sign in digits]):
-        return False
-    return digits == "0" or digits[0] != "0"

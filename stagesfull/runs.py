@@ -1,6 +1,6 @@
 """Runs: machines that go through their rows of deeds and send letters to each other."""
 
-from stagesfull.checks import is_between
+from stagesfull.checks import as_tuples, is_between
 from stagesfull.cuts import is_cut, stage_layers
 from stagesfull.errors import InvalidCut, NoLetter, NoMachine, NotDone
 from stagesfull.nets import Net, loss_slopes
@@ -11,6 +11,66 @@ def check_run_cut(net, cut, schedule):
     """Raise InvalidCut unless cut is one of the net's layers into the schedule's stages."""
     if not is_cut(len(net), cut) or len(cut) != schedule.stages:
         raise InvalidCut(cut)
+
+
+class OnWay:
+    """The row of the letters that are on the way.
+
+    What a letter brings stands last in it; all ahead of that tells which letter it is.
+    """
+
+    def __init__(self):
+        self._letters = []
+
+    def __len__(self):
+        return len(self._letters)
+
+    def told(self):
+        """Which letters they are, in order."""
+        return tuple([letter[:-1] for letter in self._letters])
+
+    def put(self, letters):
+        """Put letters at the end."""
+        self._letters.extend(letters)
+
+    def _check(self, number):
+        if not is_between(number, 0, len(self._letters) - 1):
+            raise NoLetter(number)
+
+    def take(self, number):
+        """Take the letter of this place out of the row."""
+        self._check(number)
+        return self._letters.pop(number)
+
+    def put_again(self, number):
+        """Put the letter of this place at the end once more."""
+        self._check(number)
+        self._letters.append(self._letters[number])
+
+    def stand(self):
+        """All letters, with what they bring."""
+        return tuple(self._letters)
+
+    def go_back_to(self, stand):
+        """Have the letters that were there when it told this stand."""
+        self._letters = list(stand)
+
+
+def let_calm(run, machines):
+    """Let all machines post, and deliver all letters, again and again until none of them is new."""
+    while _brings_new(run, machines):
+        pass
+
+
+def _brings_new(run, machines):
+    """Let all machines post, and deliver all letters; whether one was new."""
+    for machine in range(machines):
+        run.post(machine)
+    new = False
+    while len(run) > 0:
+        if run.deliver(0):
+            new = True
+    return new
 
 
 class Machine:
@@ -91,16 +151,28 @@ class Machine:
 
     def fall_back(self):
         """Go back to the stand that was kept last, or to the beginning, and go on."""
-        self.place, stands, given, said, got = self._last_kept
-        for stage, stand in stands:
-            self.works[stage].go_back_to(stand)
+        self._be_as(self._last_kept)
+        self.go_on()
+
+    def stand(self):
+        """All that changes in the machine, with what it kept, in plain tuples."""
+        return self._stand(), self._last_kept
+
+    def go_back_to(self, stand):
+        """Be as it was when it told this stand."""
+        present, self._last_kept = stand
+        self._be_as(present)
+
+    def _be_as(self, stand):
+        self.place, stands, given, said, got = stand
+        for stage, one in stands:
+            self.works[stage].go_back_to(one)
         self._given = {deed: vectors for deed, vectors in given}
         self.said = list(said)
         self._got = {deed: vectors for deed, vectors in got}
-        self.go_on()
 
     def _stand(self):
-        """All that changes in the machine, in plain tuples."""
+        """All that keeping keeps, in plain tuples."""
         stands = tuple([(stage, self.works[stage].stand()) for stage in sorted(self.works)])
         given = tuple([(deed, self._given[deed]) for deed in self._given])
         got = tuple([(deed, self._got[deed]) for deed in self._got])
@@ -119,9 +191,9 @@ class Run:
         self._prime = net.prime
         self._kinds = net.kinds
         self._stages = schedule.stages
-        self._on_way = []
+        self._on_way = OnWay()
         self._machines = []
-        plain = _plain_batch(batch)
+        plain = as_tuples(batch)
         layers = stage_layers(cut)
         for number in range(schedule.machines):
             works = {stage: Work(net, layers[stage], again, own, rate)
@@ -139,33 +211,26 @@ class Run:
             raise NoMachine(machine)
         return self._machines[machine]
 
-    def _check_letter(self, number):
-        if not is_between(number, 0, len(self._on_way) - 1):
-            raise NoLetter(number)
-
     def post(self, machine):
         """Put all letters that the machine has said at the end of the row of letters on the way."""
-        self._on_way.extend(self._known(machine).said)
+        self._on_way.put(self._known(machine).said)
 
     def letters(self):
         """(way, portion, stage) of the letters on the way."""
-        return tuple([letter[:3] for letter in self._on_way])
+        return self._on_way.told()
 
     def deliver(self, number):
         """Bring the letter of this place to its machine; whether it was new there."""
-        self._check_letter(number)
-        letter = self._on_way.pop(number)
+        letter = self._on_way.take(number)
         return self._machines[letter[2] % len(self._machines)].take_letter(letter)
 
     def double(self, number):
         """Put the letter of this place at the end once more."""
-        self._check_letter(number)
-        self._on_way.append(self._on_way[number])
+        self._on_way.put_again(number)
 
     def lose(self, number):
         """Take the letter of this place out of the row."""
-        self._check_letter(number)
-        del self._on_way[number]
+        self._on_way.take(number)
 
     def place_of(self, machine):
         """How many deeds of its row the machine has done."""
@@ -185,18 +250,7 @@ class Run:
 
     def calm(self):
         """Post and deliver all letters again and again, until none of them is new."""
-        while self._brings_new():
-            pass
-
-    def _brings_new(self):
-        """Let all machines post, and deliver all letters; whether one was new."""
-        for number in range(len(self._machines)):
-            self.post(number)
-        new = False
-        while len(self._on_way) > 0:
-            if self.deliver(0):
-                new = True
-        return new
+        let_calm(self, len(self._machines))
 
     def trained(self):
         """The net with the weights of all works."""
@@ -212,6 +266,13 @@ class Run:
         """For each machine the sum of its works' layers_done."""
         return tuple([machine.layers_gone_through() for machine in self._machines])
 
+    def stand(self):
+        """The stands of all machines, with what they kept, and the letters on the way, in plain tuples."""
+        return tuple([machine.stand() for machine in self._machines]), self._on_way.stand()
 
-def _plain_batch(batch):
-    return tuple([tuple([(tuple(vector), tuple(target)) for vector, target in portion]) for portion in batch])
+    def go_back_to(self, stand):
+        """Be as the run was that told this stand."""
+        stands, letters = stand
+        for machine, one in zip(self._machines, stands):
+            machine.go_back_to(one)
+        self._on_way.go_back_to(letters)

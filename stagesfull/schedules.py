@@ -1,6 +1,6 @@
 """Schedules: which machine does what after what."""
 
-from stagesfull.checks import is_between, is_sequence
+from stagesfull.checks import as_tuples, is_between, is_sequence
 from stagesfull.errors import InvalidNumber, InvalidRows
 
 
@@ -11,7 +11,7 @@ class Schedule:
         check_counts(machines, stages, portions)
         if not _are_deed_rows(rows):
             raise InvalidRows(rows)
-        plain = tuple([tuple([tuple(deed) for deed in row]) for row in rows])
+        plain = as_tuples(rows)
         if not _has_all_deeds(machines, stages, portions, plain) or not _is_lawful(stages, plain):
             raise InvalidRows(rows)
         self.machines = machines

@@ -5,27 +5,27 @@ from stagesfull.schedules import needs, some_order
 
 def starts(schedule, forth, back, *, wait=0):
     """For each machine the beginnings of the deeds of its row."""
-    ends = _ends(schedule, forth, back, wait)
-    return tuple([tuple([ends[deed] - time_of(deed, forth, back) for deed in row]) for row in schedule.rows])
+    lengths = deed_times(schedule, forth, back)
+    ends = ends_of(schedule, lengths, wait)
+    return tuple([tuple([ends[deed] - lengths[deed] for deed in row]) for row in schedule.rows])
 
 
 def span(schedule, forth, back, *, wait=0):
     """The greatest end of a deed."""
-    return max(_row_ends(schedule, _ends(schedule, forth, back, wait)))
+    return max(ends_of(schedule, deed_times(schedule, forth, back), wait).values())
 
 
 def chain(schedule, forth, back, *, wait=0):
     """A row of deeds, each of which lets the next one begin, from the beginning to the span."""
-    ends = _ends(schedule, forth, back, wait)
-    row_ends = _row_ends(schedule, ends)
-    aheads = _deeds_ahead(schedule)
+    ends = ends_of(schedule, deed_times(schedule, forth, back), wait)
+    letting = letting_deeds(schedule)
+    row_ends = [ends[row[-1]] for row in schedule.rows]
     deeds = [schedule.rows[row_ends.index(max(row_ends))][-1]]
-    letting = _letting(schedule, deeds[-1], aheads)
-    while letting:
+    while letting[deeds[-1]]:
+        ones = letting[deeds[-1]]
         # Of those that let it begin latest the first one: the deed ahead in the row stands first.
-        frees = [_frees(schedule, one, deeds[-1], ends, wait) for one in letting]
-        deeds.append(letting[frees.index(max(frees))])
-        letting = _letting(schedule, deeds[-1], aheads)
+        frees = [ends[one] + letter_time(schedule, one, deeds[-1], wait) for one in ones]
+        deeds.append(ones[frees.index(max(frees))])
     return tuple(deeds[::-1])
 
 
@@ -41,40 +41,34 @@ def time_of(deed, forth, back):
     return forth[stage] if way == "f" else back[stage]
 
 
-def _deeds_ahead(schedule):
-    """For each deed the one directly ahead of it in its row, or None."""
-    aheads = {}
-    for row in schedule.rows:
-        ahead = None
-        for deed in row:
-            aheads[deed] = ahead
-            ahead = deed
-    return aheads
+def deed_times(schedule, forth, back):
+    """For each deed how long it takes."""
+    return {deed: time_of(deed, forth, back) for row in schedule.rows for deed in row}
 
 
-def _letting(schedule, deed, aheads):
-    """The deeds that let this one begin: the one ahead in its row, then those it needs, ascending."""
-    ahead = aheads[deed]
-    return (() if ahead is None else (ahead,)) + needs(schedule, deed)
+def letter_time(schedule, one, other, wait):
+    """How long the other deed waits for a letter when the one has ended."""
+    return 0 if (one[2] - other[2]) % schedule.machines == 0 else wait
 
 
-def _frees(schedule, one, other, ends, wait):
-    """From when on the one deed lets the other begin."""
-    if (one[2] - other[2]) % schedule.machines == 0:
-        return ends[one]
-    return ends[one] + wait
+def letting_deeds(schedule):
+    """For each deed, in one order of all of them, those that let it begin.
 
-
-def _ends(schedule, forth, back, wait):
-    """When each deed ends, if each begins as early as it can."""
-    aheads = _deeds_ahead(schedule)
-    ends = {}
+    The one directly ahead of it in its row stands first, then those that it needs, ascending.
+    """
+    lasts = {}
+    letting = {}
     for deed in some_order(schedule):
-        frees = [_frees(schedule, one, deed, ends, wait) for one in _letting(schedule, deed, aheads)]
-        ends[deed] = max([0] + frees) + time_of(deed, forth, back)
+        machine = deed[2] % schedule.machines
+        letting[deed] = lasts.get(machine, ()) + needs(schedule, deed)
+        lasts[machine] = (deed,)
+    return letting
+
+
+def ends_of(schedule, lengths, wait):
+    """When each deed ends, if each takes so long as lengths tells and begins as early as it can."""
+    ends = {}
+    for deed, ones in letting_deeds(schedule).items():
+        frees = [ends[one] + letter_time(schedule, one, deed, wait) for one in ones]
+        ends[deed] = max([0] + frees) + lengths[deed]
     return ends
-
-
-def _row_ends(schedule, ends):
-    """For each machine when its last deed ends."""
-    return [ends[row[-1]] for row in schedule.rows]

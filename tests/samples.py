@@ -124,6 +124,47 @@ def some_schedule(rng, machines=None, stages=None, portions=None):
     return Schedule(machines, stages, portions, some_rows(rng, machines, stages, portions))
 
 
+def timed_schedules(rng, many, portions):
+    """Schedules of up to so many portions with times forth and back, each without a wait and with one."""
+    for _ in range(many):
+        schedule = some_schedule(rng, None, None, rng.randint(1, portions))
+        most = rng.choice((1, 2, 5, 100))
+        forth = [rng.randint(1, most) for _ in range(schedule.stages)]
+        back = [rng.randint(1, most) for _ in range(schedule.stages)]
+        for wait in (0, rng.randint(1, 20)):
+            yield schedule, forth, back, wait
+
+
+def time_of(deed, forth, back):
+    return forth[deed[2]] if deed[0] == "f" else back[deed[2]]
+
+
+def lets_of(schedule, deed):
+    """What lets a deed begin: the one ahead in its row, then what it needs, ascending."""
+    row = schedule.rows[deed[2] % schedule.machines]
+    place = row.index(deed)
+    return [*row[:place][-1:], *plain_needs(schedule.stages, deed)]
+
+
+def wait_between(schedule, one, other, wait):
+    return 0 if one[2] % schedule.machines == other[2] % schedule.machines else wait
+
+
+def plain_begins(schedule, forth, back, wait):
+    """When each deed begins: moved up until nothing changes any more."""
+    begins = {deed: 0 for row in schedule.rows for deed in row}
+    moved = True
+    while moved:
+        moved = False
+        for deed in begins:
+            for one in lets_of(schedule, deed):
+                free = begins[one] + time_of(one, forth, back) + wait_between(schedule, one, deed, wait)
+                if free > begins[deed]:
+                    begins[deed] = free
+                    moved = True
+    return begins
+
+
 def late_weights(net, cut, batch, schedule, rate):
     """The plain way of [17]: one hand does all deeds in order and keeps all versions of the weights."""
     layers = []

@@ -131,7 +131,8 @@ class Form(unittest.TestCase):
                 self.assertNotIn(name, WORDS, path)
                 if name.startswith("__"):
                     self.assertIn(name, DUNDERS, path)
-                else:
+                elif name != "_":
+                    # A doctest that ran ahead of this one has made a builtin of _.
                     self.assertFalse(hasattr(builtins, name), (path, name))
             known = imported | set(bound_names(tree)) | BUILTINS
             for node in ast.walk(tree):

@@ -82,6 +82,20 @@ FUNCTIONS = {
         "late_train": "(net, cut, batch, schedule, rate)",
         "version_used": "(schedule, portion, stage)",
     },
+    "stands": {
+        "write_net": "(net)",
+        "read_net": "(text)",
+    },
+    "bounds": {"bottleneck": "(machines, stages, portions, forth, back, *, wait=0)"},
+    "pictures": {"picture": TIMED},
+    "snapshots": {
+        "snapshot": "(run)",
+        "restored": "(net, cut, batch, schedule, rate, saved, *, again=False, own=False)",
+    },
+    "slacks": {
+        "delayed_span": "(schedule, forth, back, extra, *, wait=0)",
+        "slack": TIMED,
+    },
 }
 
 # For each class its methods.

@@ -2,51 +2,15 @@
 
 import unittest
 
-from samples import all_tuples, as_lists, dice, plain_needs, some_schedule
+from samples import (all_tuples, as_lists, dice, lets_of, plain_begins, some_schedule, time_of,
+                     timed_schedules, wait_between)
 from stagesfull.rules import fill_and_drain, one_and_one, read_rows
 from stagesfull.schedules import Schedule
 from stagesfull.times import chain, idle, span, starts
 
 
-def time_of(deed, forth, back):
-    return forth[deed[2]] if deed[0] == "f" else back[deed[2]]
-
-
-def lets_of(schedule, deed):
-    """What lets a deed begin: the one ahead in its row, then what it needs, ascending."""
-    row = schedule.rows[deed[2] % schedule.machines]
-    place = row.index(deed)
-    return [*row[:place][-1:], *plain_needs(schedule.stages, deed)]
-
-
-def wait_between(schedule, one, other, wait):
-    return 0 if one[2] % schedule.machines == other[2] % schedule.machines else wait
-
-
-def plain_begins(schedule, forth, back, wait):
-    """When each deed begins: moved up until nothing changes any more."""
-    begins = {deed: 0 for row in schedule.rows for deed in row}
-    moved = True
-    while moved:
-        moved = False
-        for deed in begins:
-            for one in lets_of(schedule, deed):
-                free = begins[one] + time_of(one, forth, back) + wait_between(schedule, one, deed, wait)
-                if free > begins[deed]:
-                    begins[deed] = free
-                    moved = True
-    return begins
-
-
 def samples():
-    rng = dice(1)
-    for _ in range(150):
-        schedule = some_schedule(rng, None, None, rng.randint(1, 5))
-        most = rng.choice((1, 2, 5, 100))
-        forth = [rng.randint(1, most) for _ in range(schedule.stages)]
-        back = [rng.randint(1, most) for _ in range(schedule.stages)]
-        for wait in (0, rng.randint(1, 20)):
-            yield schedule, forth, back, wait
+    return timed_schedules(dice(1), 150, 5)
 
 
 class Times(unittest.TestCase):
