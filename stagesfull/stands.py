@@ -18,12 +18,11 @@ def write_net(net):
 
 def read_net(text):
     """The net that the text tells."""
-    if not isinstance(text, str) or text == "":
+    if not isinstance(text, str):
         raise InvalidText(text, 0)
     lines = text.split("\n")
     head = _head_of(lines[0])
-    # A lone line is one without a line feed.
-    if head is None or len(lines) == 1:
+    if head is None:
         raise InvalidText(text, 0)
     prime, width = head
     layers = []

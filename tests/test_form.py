@@ -147,6 +147,46 @@ class Form(unittest.TestCase):
                 if isinstance(node, ast.Call) and isinstance(node.func, ast.Attribute):
                     self.assertIn(node.func.attr, METHODS | own, path)
 
+    def test_what_is_iterated_on_the_spot(self):
+        """Ranges, zips, views and the like stand where they are iterated, or are kept by a name."""
+        iterating = {"list", "tuple", "dict", "sorted", "sum", "min", "max", "any", "all", "enumerate", "zip"}
+        for path, tree in self.each_tree():
+            fitting = set()
+            for node in ast.walk(tree):
+                if isinstance(node, (ast.For, ast.comprehension)):
+                    fitting.add(id(node.iter))
+                elif isinstance(node, ast.Assign) and isinstance(node.targets[0], ast.Name):
+                    fitting.add(id(node.value))
+                elif isinstance(node, ast.Call) and isinstance(node.func, ast.Name):
+                    of_range = isinstance(node.args[0], ast.Call) and ast.unparse(node.args[0].func) == "range" \
+                        if node.args else False
+                    if node.func.id in iterating or node.func.id == "reversed" and of_range:
+                        fitting |= {id(one) for one in node.args}
+            for node in ast.walk(tree):
+                if isinstance(node, ast.Call):
+                    word = getattr(node.func, "id", None) or getattr(node.func, "attr", None)
+                    if word in ("range", "zip", "enumerate", "reversed", "items", "keys", "values"):
+                        self.assertIn(id(node), fitting, (path, node.lineno))
+
+    def test_methods_and_attributes(self):
+        builtin = {name for kind in (str, int, list, dict, set, bytes, tuple) for name in dir(kind)}
+        for path, tree in self.each_tree():
+            for one in ast.walk(tree):
+                if not isinstance(one, ast.ClassDef):
+                    continue
+                methods = [node.name for node in one.body if isinstance(node, ast.FunctionDef)]
+                attributes = {node.attr for node in ast.walk(one)
+                              if isinstance(node, ast.Attribute) and isinstance(node.ctx, ast.Store)}
+                self.assertEqual(len(methods), len(set(methods)), one.name)
+                self.assertFalse(attributes & set(methods), one.name)
+                self.assertFalse((attributes | set(methods) - DUNDERS) & builtin, one.name)
+
+    def test_what_stands_for_nothing_is_not_read(self):
+        for path, tree in self.each_tree():
+            for node in ast.walk(tree):
+                if isinstance(node, ast.Name) and node.id == "_":
+                    self.assertIsInstance(node.ctx, ast.Store, (path, node.lineno))
+
     def test_strings(self):
         for path, tree in self.each_tree():
             docstrings = {id(node.body[0].value) for node in ast.walk(tree)

@@ -96,6 +96,20 @@ FUNCTIONS = {
         "delayed_span": "(schedule, forth, back, extra, *, wait=0)",
         "slack": TIMED,
     },
+    "rooms": {"best_again": "(kept, costs, room)"},
+    "replicas": {
+        "train_replicas": "(net, batches, rate)",
+        "flat": "(slopes)",
+        "unflat": "(net, row)",
+    },
+    "twos": {
+        "makespan": "(works, order)",
+        "best_order": "(works)",
+    },
+    "audits": {
+        "letter_due": "(net, cut, batch, schedule, letter)",
+        "run_time": "(schedule, forth, back, machine, slower)",
+    },
 }
 
 # For each class its methods.
@@ -154,9 +168,23 @@ CLASSES = {
             "__len__": "(self)",
         },
     },
+    "rings": {
+        "Ring": {
+            "__init__": "(self, vectors)",
+            "post": "(self, machine)",
+            "letters": "(self)",
+            "deliver": "(self, number)",
+            "double": "(self, number)",
+            "lose": "(self, number)",
+            "calm": "(self)",
+            "is_done": "(self)",
+            "row": "(self, machine)",
+            "__len__": "(self)",
+        },
+    },
 }
 
-PROPERTIES = {"nets": {"Net": ("width",)}}
+PROPERTIES = {"nets": {"Net": ("width",)}, "rings": {"Ring": ("numbers_said",)}}
 
 
 class Interface(unittest.TestCase):

@@ -223,6 +223,23 @@ class WrongRows(unittest.TestCase):
         for stage in (-1, 2, 3):
             self.refuse(((("f", 0, 0), ("f", 0, stage), ("b", 0, stage), ("b", 0, 0)),), 1, 2, 1)
 
+    def test_a_foreign_deed_in_place_of_each_one(self):
+        told = [(1, 1, 1, ((("f", 0, 0), ("b", 0, 0)),)), SMALL,
+                (1, 2, 1, ((("f", 0, 0), ("f", 0, 1), ("b", 0, 1), ("b", 0, 0)),)),
+                (1, 1, 2, ((("f", 0, 0), ("f", 1, 0), ("b", 1, 0), ("b", 0, 0)),))]
+        for machines, stages, portions, rows in told:
+            Schedule(machines, stages, portions, rows)
+            for number, row in enumerate(rows):
+                for place, (way, portion, stage) in enumerate(row):
+                    foreign = [(other, portion, stage) for other in ("", "x", "fb", "F", 0, None, [], ("f",))]
+                    foreign += [(one, portion, other) for one in "fb" for other in range(-4, 9)
+                                if other not in range(stages)]
+                    foreign += [(one, other, stage) for one in "fb" for other in (-2, -1, portions, portions + 1)]
+                    for deed in foreign:
+                        other = [list(one) for one in rows]
+                        other[number][place] = deed
+                        self.refuse(other, machines, stages, portions)
+
     def test_rows_of_other_machines(self):
         one, two = SMALL[3]
         self.refuse((two, one))

@@ -2,42 +2,12 @@
 
 import unittest
 
-from samples import FEW, all_lawful_rows, any_values_but, dice
+from samples import FEW, all_lawful_rows, any_values_but, dice, plain_least
 from stagesfull.errors import InvalidNumber, TooMany
 from stagesfull.leasts import least_span, least_span_many
 from stagesfull.schedules import Schedule
 from stagesfull.searches import least_found, least_of_tables
 from stagesfull.times import span
-
-
-def plain_least(machines, stages, portions, under, forth, back):
-    """The least time, by trying from moment to moment what each machine begins or whether it waits.
-
-    A stand has for each portion how many of its deeds are done or begun, and how long the last of them
-    still takes.
-    """
-    stand_of = [stage % machines for stage in (*range(stages), *reversed(range(stages)))]
-    times = [forth] * stages + [back] * stages
-    stands = {((0, 0),) * portions}
-    moment = 0
-    while True:
-        if any(all(way == (2 * stages, 0) for way in stand) for stand in stands):
-            return moment
-        for machine in range(machines):
-            begun = set()
-            for stand in stands:
-                if any(left > 0 and stand_of[done - 1] == machine for done, left in stand):
-                    continue
-                for place, (done, left) in enumerate(stand):
-                    if left or done == 2 * stages or stand_of[done] != machine:
-                        continue
-                    on_way = sum(way != (0, 0) and way != (2 * stages, 0) for way in stand)
-                    if done == 0 and on_way == under:
-                        continue
-                    begun.add(tuple(sorted(stand[:place] + ((done + 1, times[done]),) + stand[place + 1:])))
-            stands |= begun
-        stands = {tuple(sorted((done, max(0, left - 1)) for done, left in stand)) for stand in stands}
-        moment += 1
 
 
 class LeastFound(unittest.TestCase):

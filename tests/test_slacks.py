@@ -56,6 +56,12 @@ class ByHand(unittest.TestCase):
         self.assertEqual(slack(*given, wait=1), ((0, 1, 1, 0), (0, 0, 0, 0)))
         self.assertEqual([delayed_span(*given, ((F10, number),), wait=1) for number in range(4)], [8, 8, 9, 10])
         self.assertEqual(delayed_span(*given, ((F10, 2), (B00, 2)), wait=1), 9)
+        # 01..aa2bb.cc
+        # .0aa1bb2cc..
+        given = (one_and_one(2, 3, 2), (1, 1), (2, 2))
+        self.assertEqual(slack(*given), ((0, 2, 0, 0, 1, 0), (0, 0, 0, 0, 0, 0)))
+        self.assertEqual(slack(*given, wait=0), slack(*given))
+        self.assertEqual(slack(*given, wait=1), ((0, 4, 0, 0, 3, 0), (0, 0, 2, 2, 0, 0)))
         # One machine waits for no letter.
         self.assertEqual(slack(fill_and_drain(1, 2, 1), (1, 2), (3, 4), wait=20), ((0, 0, 0, 0),))
         self.assertEqual(delayed_span(fill_and_drain(1, 2, 1), (1, 2), (3, 4), ((F01, 5),), wait=20), 15)
